@@ -1,0 +1,1 @@
+"""Orders of a diagram's boxes on their ranks, and the crossings between its edges."""

@@ -1,9 +1,11 @@
 """What the tests share: calls and their answers, and a plain model of the document to compare with.
 
 The model is written apart from the program and in other ways: tokens by patterns, the grammar as a table of
-states, ways by closures, ranks by recursion, crossings counted along one side.
+states, ways by closures, ranks by recursion, crossings counted along one side, middles as fractions, swaps and best
+orders by counting all crossings around a rank anew.
 """
 
+import fractions
 import functools
 import graphlib
 import itertools
@@ -39,6 +41,30 @@ def put(k, places):
     return [5, k, len(places)] + list(places)
 
 
+def sweep(d):
+    return [6, d]
+
+
+def swaps():
+    return [7]
+
+
+def settle():
+    return [8]
+
+
+def anew():
+    return [9]
+
+
+def middle(k, i, s):
+    return [10, k, i, s]
+
+
+def best(k):
+    return [11, k]
+
+
 def split(flat):
     """The answers one by one, from the list that has each one's length before it."""
     found = []
@@ -53,6 +79,7 @@ def split(flat):
 
 def run(*calls):
     """The answer to each call, all on one object."""
+    assert 1 <= len(calls) <= 100
     return split(answers([number for call in calls for number in call]))
 
 
@@ -69,10 +96,20 @@ def form_of(text):
     return bytes(answer[1:]).decode("ascii")
 
 
-def named_rows(text):
-    """The first order with boxes by their names and passing places as numbers of edges."""
+def named_rows(text, *calls):
+    """The order behind the calls with boxes by their names and passing places as numbers of edges."""
     names = re.findall(r"^box (\w+)", form_of(text), re.M)
-    return [[names[number] if sort == 0 else number for sort, number in row] for row in rows_of(text)]
+    return [[names[number] if sort == 0 else number for sort, number in row] for row in rows_of(text, *calls)]
+
+
+def boxes(names):
+    """The text of boxes whose names are letters."""
+    return "".join(f"box {name};" for name in names)
+
+
+def edges(ends):
+    """The text of edges, each told by the letters of its two boxes."""
+    return "".join(f"edge {one[0]}->{one[1]};" for one in ends.split())
 
 
 # The model.
@@ -249,6 +286,56 @@ class Model:
         each = [len(self.pairs(k, rows)) for k in range(len(self.rows) - 1)]
         return [sum(each)] + each
 
+    def near(self, k, s, rows):
+        """For each place of rank k its neighbours above (s is 0) or below."""
+        found = [[] for item in rows[k]]
+        if 0 <= k - 1 + s < len(rows) - 1:
+            for above, below, edge in self.pieces(k - 1 + s, rows):
+                found[(below, above)[s]].append((above, below)[s])
+        return found
+
+    def swept(self, d, rows):
+        rows = [list(row) for row in rows]
+        for k in (range(1, len(rows)), range(len(rows) - 2, -1, -1))[d]:
+            near = self.near(k, d, rows)
+            movers = iter(sorted((fractions.Fraction(sum(places), len(places)), place)
+                                 for place, places in enumerate(near) if places))
+            rows[k] = [rows[k][next(movers)[1]] if places else rows[k][place] for place, places in enumerate(near)]
+        return rows
+
+    def around(self, k, row, rows):
+        """The crossings in the channels at rank k, if it has this row."""
+        rows = rows[:k] + [row] + rows[k + 1:]
+        return sum(len(self.pairs(c, rows)) for c in (k - 1, k) if 0 <= c < len(rows) - 1)
+
+    def passed(self, rows):
+        """The rows behind a pass, and how many swaps it made."""
+        rows = [list(row) for row in rows]
+        made = 0
+        for k in range(len(rows)):
+            for i in range(len(rows[k]) - 1):
+                swapped = rows[k][:i] + [rows[k][i + 1], rows[k][i]] + rows[k][i + 2:]
+                if self.around(k, swapped, rows) < self.around(k, rows[k], rows):
+                    rows[k] = swapped
+                    made += 1
+        return rows, made
+
+    def settled(self, rows):
+        seen = [rows]
+        for d in (0, 1) * 4:
+            seen.append(self.swept(d, seen[-1]))
+        counts = [self.crossings(one)[0] for one in seen]
+        rows, made = self.passed(seen[counts.index(min(counts))])
+        while made:
+            rows, made = self.passed(rows)
+        return rows
+
+    def with_best(self, k, rows):
+        places = range(len(rows[k]))
+        order = min(itertools.permutations(places), key=lambda order: (
+            self.around(k, [rows[k][place] for place in order], rows), order != tuple(places), order))
+        return rows[:k] + [[rows[k][place] for place in order]] + rows[k + 1:]
+
     def loaded(self):
         passing = sum(sort for row in self.rows for sort, number in row)
         return [1, len(self.rows), passing, self.crossings()[0]]
@@ -283,6 +370,31 @@ def made_text(source, boxes, edges, wishes, circles):
                 a, b = min(a, b), max(a, b)
             lines.append(f"{word} n{a} {sign}n{b} ;")
     source.shuffle(lines)
+    return "\n".join(lines)
+
+
+def made_orders(source, rows):
+    """A put for each rank."""
+    return [put(k, source.sample(range(len(row)), len(row))) for k, row in enumerate(rows)]
+
+
+def made_changes(source, rows, count):
+    """Calls of all sorts that make other orders."""
+    calls = []
+    for number in range(count):
+        k = source.randrange(len(rows))
+        calls.append(source.choice((
+            put(k, source.sample(range(len(rows[k])), len(rows[k]))), sweep(0), sweep(1), swaps(), settle(), anew(),
+            best(k), best(k))))
+    return calls
+
+
+def made_zigzag(source, length):
+    """A way of edges to and fro between two ranks, which sweeps put in order only step by step."""
+    places = source.sample(range(length), length)
+    lines = [f"box n{place} ;" for place in places]
+    for place in range(length - 1):
+        lines.append("edge n{} -> n{} ;".format(*sorted((place, place + 1), key=lambda one: one % 2)))
     return "\n".join(lines)
 
 

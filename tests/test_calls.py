@@ -1,14 +1,18 @@
-"""rank, crossings, pairs, put, refusals, and the interface."""
+"""rank, crossings, pairs, put, refusals, small and large diagrams, and the interface."""
 
 import contextlib
 import inspect
 import io
 import random
 import sys
+import time
 import unittest
 
 from crossings.orders import answers
-from tests.helper import FAR, Model, crossings, load, made_texts, pairs, put, rank, rows_of, run, shown
+from tests.helper import (
+    FAR, Model, anew, best, crossings, load, made_changes, made_orders, made_text, made_texts, middle, pairs, put, rank,
+    rows_of, run, settle, shown, swaps, sweep,
+)
 
 # Rank 0: A, B. Rank 1: C, D. All four edges, the inner two of which are doubled, cross here and there.
 SQUARE = "box A;box B;box C;box D;edge A->D;edge B->C;edge A->C;edge B->D;edge A->D;edge B->C;"
@@ -160,12 +164,103 @@ class NoDiagram(unittest.TestCase):
 
     def test_every_call_but_load(self):
         for call in (shown(), rank(0), rank(FAR), crossings(), pairs(0), pairs(-FAR), put(0, []), put(-1, [3, 3]),
-                     [6, 0], [6, 9], [7], [8], [9], [10, 0, 0, 0], [10, -1, -1, 5], [11, 0], [11, -FAR]):
+                     sweep(0), sweep(1), sweep(2), sweep(-FAR), swaps(), settle(), anew(), middle(0, 0, 0),
+                     middle(-1, 0, 0), middle(0, -1, 0), middle(0, 0, 5), middle(FAR, -FAR, FAR), best(0), best(-FAR)):
             self.assertEqual(run(call), [[-1]], call)
             self.assertEqual(run(load("!"), call, load("box A;"), crossings()), [[0, 2, 0], [-1], [1, 1, 0, 0], [0]])
 
 
+class Loads(unittest.TestCase):
+
+    def test_one_that_fails_changes_nothing(self):
+        asked = [rank(0), rank(1), crossings(), pairs(0), shown(), middle(0, 0, 1)]
+        for change in ([put(0, [1, 0])], [sweep(0)], [sweep(1)], [swaps()], [settle()], [best(0)], [best(1)]):
+            for text in ("!", "box", "box A;box A;", "edge A->B;", "x" * 5000):
+                found = run(load(SQUARE), *change, *asked, load(text), *asked, anew())
+                self.assertEqual(found[2:8], found[9:15])
+                self.assertEqual(found[8][0], 0)
+                self.assertEqual(found[15], [4])
+
+    def test_one_that_succeeds_starts_with_its_first_order(self):
+        asked = [rank(0), rank(1), crossings(), pairs(0), shown()]
+        for change in ([put(0, [1, 0])], [sweep(0)], [sweep(1)], [swaps()], [settle()], [best(0)], [best(1)]):
+            found = run(load(SQUARE), *asked, *change, load(SQUARE), *asked, load("box A;"), rank(0), rank(1))
+            self.assertEqual(found[1:6], found[8:13])
+            self.assertEqual(found[13:], [[1, 1, 0, 0], [1, 0, 0], [-2]])
+
+
+class SmallDiagrams(unittest.TestCase):
+
+    def test_without_a_box(self):
+        for text in ("", "# nothing", "\n"):
+            self.assertEqual(
+                run(load(text), shown(), rank(0), crossings(), pairs(0), put(0, []), sweep(0), sweep(1), sweep(2),
+                    sweep(-1), swaps(), settle(), anew(), middle(0, 0, 0), middle(-1, 5, 5), best(0)),
+                [[1, 0, 0, 0], [0], [-2], [0], [-2], [-2], [0], [0], [-3], [-3], [0, 0], [0, 0], [0], [-2], [-2], [-2]])
+
+    def test_a_single_rank(self):
+        text = "box A;box B;box C;"
+        form = b"box A 5 3 ;\nbox B 5 3 ;\nbox C 5 3 ;\n"
+        row = [3, 0, 2, 0, 0, 0, 1]
+        self.assertEqual(
+            run(load(text), shown(), put(0, [2, 0, 1]), rank(0), crossings(), pairs(0), sweep(0), rank(0), sweep(1),
+                rank(0), sweep(2), swaps(), rank(0), settle(), rank(0), best(0), rank(0), middle(0, 2, 0),
+                middle(0, 2, 1), middle(0, 2, 2), middle(0, 3, 0), middle(1, 0, 0), best(1), anew(), rank(0)),
+            [[1, 1, 0, 0], [len(form)] + list(form), [0], row, [0], [-2], [0], row, [0], row, [-3], [0, 0], row, [0, 0],
+             row, [0], row, [0, 0], [0, 0], [-3], [-5], [-2], [-2], [0], [3, 0, 0, 0, 1, 0, 2]])
+
+    def test_a_single_box(self):
+        self.assertEqual(
+            run(load("box A;"), put(0, [0]), sweep(0), sweep(1), swaps(), settle(), anew(), best(0), middle(0, 0, 0),
+                middle(0, 0, 1), rank(0)),
+            [[1, 1, 0, 0], [0], [0], [0], [0, 0], [0, 0], [0], [0], [0, 0], [0, 0], [1, 0, 0]])
+
+
+class LargeDiagrams(unittest.TestCase):
+    """24 boxes and 40 edges: what makes orders better comes to an end within seconds."""
+
+    def texts(self):
+        source = random.Random(43)
+        names = [f"n{number}" for number in range(24)]
+        for number in range(6):
+            yield made_text(source, 24, 40, 0, number % 2 == 0), source
+        # As many ranks as can be, with as many edges over them as can be.
+        tower = "".join(f"box {name};" for name in names)
+        tower += "".join(f"above {a} {b};" for a, b in zip(names[:17], names[1:17]))
+        tower += "".join(f"edge {a}->{b};" for a, b in zip(names[16:], names[17:]))
+        for number in range(2):
+            yield tower + "".join(f"edge n{source.randrange(4)}->n{source.randrange(19, 24)};" for edge in range(33)), source
+        # Two ranks, all edges between them.
+        yield "".join(f"box {name};" for name in names) + "".join(
+            f"edge n{source.randrange(12)}->n{source.randrange(12, 24)};" for edge in range(40)), source
+
+    def test_in_time(self):
+        for text, source in self.texts():
+            rows = rows_of(text)
+            short = [k for k, row in enumerate(rows) if len(row) <= 6]
+            start = time.perf_counter()
+            found = run(load(text), *made_orders(source, rows), settle(), *made_orders(source, rows), swaps(),
+                        *[best(k) for k in short], settle())
+            self.assertLess(time.perf_counter() - start, 5)
+            self.assertEqual(found[0][0], 1)
+            self.assertLessEqual(found[-1][0], found[-1][1])
+
+    def test_a_hundred_calls_in_time(self):
+        for text, source in self.texts():
+            k = max([k for k, row in enumerate(rows_of(text)) if len(row) <= 6], key=lambda k: len(rows_of(text)[k]),
+                    default=0)
+            for call in (settle(), best(k)):
+                start = time.perf_counter()
+                found = run(load(text), *[call] * 99)
+                self.assertLess(time.perf_counter() - start, 20)
+                self.assertEqual(len(found), 100)
+
+
 class Interface(unittest.TestCase):
+
+    def test_two_numbers_of_swaps_settle_and_middle_one_of_the_others(self):
+        calls = load(SQUARE) + sweep(0) + anew() + swaps() + anew() + settle() + middle(0, 0, 1) + best(0) + best(2)
+        self.assertEqual(answers(calls), [4, 1, 2, 0, 4, 1, 1, 1, 4, 2, 1, 1, 1, 4, 2, 1, 4, 2, 3, 1, 1, 1, 1, -2])
 
     def test_how_many_numbers_stand_before_each_answer(self):
         calls = shown() + load("box A;") + rank(0) + rank(1) + crossings() + load("?") + shown()
@@ -173,17 +268,33 @@ class Interface(unittest.TestCase):
                                           13, 12] + list(b"box A 5 3 ;\n"))
 
     def test_what_is_handed_in_stays(self):
-        calls = load(SQUARE) + put(0, [1, 0]) + put(1, [0, 0]) + rank(0) + pairs(0) + crossings() + shown()
+        calls = load(SQUARE) + put(0, [1, 0]) + put(1, [0, 0]) + rank(0) + pairs(0) + crossings() + shown() + sweep(0)
+        calls += sweep(1) + sweep(2) + swaps() + settle() + anew() + middle(1, 0, 0) + middle(1, 2, 0) + best(0) + best(2)
         before = list(calls)
         first = answers(calls)
         self.assertEqual(calls, before)
         self.assertEqual(answers(calls), first)
         self.assertEqual(calls, before)
 
+    def test_the_same_list_gives_the_same(self):
+        source = random.Random(44)
+        for text in made_texts(source, 30):
+            rows = rows_of(text)
+            calls = [load(text)]
+            for change in made_changes(source, rows, 12):
+                calls += [change, rank(source.randrange(len(rows))), middle(source.randrange(len(rows)), 0, 1), crossings()]
+            flat = [number for call in calls for number in call]
+            before = list(flat)
+            first = answers(flat)
+            self.assertEqual(flat, before)
+            self.assertEqual(answers(flat), first)
+            self.assertEqual(flat, before)
+
     def test_nothing_is_kept_from_one_time_to_the_next(self):
-        answers(load(SQUARE) + put(0, [1, 0]))
-        self.assertEqual(answers(crossings()), [1, -1])
-        self.assertEqual(run(load(SQUARE), crossings())[1], [4, 4])
+        for change in (put(0, [1, 0]), sweep(0), sweep(1), swaps(), settle(), best(0)):
+            self.assertEqual(answers(load(SQUARE) + change)[5:7], [2 if change in ([7], [8]) else 1, 1])
+            self.assertEqual(answers(crossings()), [1, -1])
+            self.assertEqual(run(load(SQUARE), crossings())[1], [4, 4])
 
     def test_an_answer_can_be_changed_without_harm(self):
         calls = load(SQUARE) + shown() + rank(0)
@@ -193,25 +304,31 @@ class Interface(unittest.TestCase):
         self.assertEqual(answers(calls), kept)
 
     def test_whole_numbers_in_a_list(self):
-        found = answers(load(SQUARE) + shown() + rank(0) + crossings() + pairs(0) + put(0, [1, 0]) + load("!") + rank(9))
+        found = answers(load(SQUARE) + shown() + rank(0) + crossings() + pairs(0) + put(0, [1, 0]) + load("!") + rank(9)
+                        + sweep(0) + sweep(1) + sweep(2) + swaps() + settle() + anew() + middle(1, 0, 0) + middle(0, 0, 0)
+                        + middle(0, 9, 0) + best(0) + best(9))
         self.assertIs(type(found), list)
         self.assertEqual({type(number) for number in found}, {int})
 
     def test_nothing_is_printed(self):
         out, err = io.StringIO(), io.StringIO()
         with contextlib.redirect_stdout(out), contextlib.redirect_stderr(err):
-            answers(load(SQUARE) + shown() + load("!") + rank(7))
+            answers(load(SQUARE) + shown() + load("!") + rank(7) + sweep(0) + swaps() + settle() + anew()
+                    + middle(0, 0, 1) + best(0))
         self.assertEqual((out.getvalue(), err.getvalue()), ("", ""))
 
     def test_a_hundred_calls(self):
         self.assertEqual(run(*[load(SQUARE)] * 50, *[put(0, [1, 0])] * 50),
                          [[1, 2, 0, 4]] * 50 + [[1], [4]] * 25)
+        self.assertEqual(run(load(SQUARE), *[anew(), sweep(0), swaps()] * 33), [[1, 2, 0, 4]] + [[4], [1], [1, 0]] * 33)
 
     def test_long_inputs_are_gone_through_by_loops(self):
         names = [f"b{number}" for number in range(24)]
         way = "".join(f"box {name};" for name in names)
         way += "".join(f"edge {a}->{b};" for a, b in zip(names, names[1:] + names[:1])) + "edge b0->b23;" * 16
         calls = load("\n" * 4096) + load("#\n" * 2048) + load("9" * 4096) + load("a" * 4096) + load(way) + shown()
+        calls += sweep(0) + sweep(1) + swaps() + settle() + best(0) + load("".join(f"box {name};" for name in names[:6]))
+        calls += best(0) + anew() + middle(0, 0, 0)
         limit = sys.getrecursionlimit()
         sys.setrecursionlimit(len(inspect.stack()) + 40)
         try:

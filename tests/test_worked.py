@@ -1,6 +1,6 @@
 import unittest
 
-from tests.helper import crossings, load, pairs, put, rank, run
+from tests.helper import anew, best, crossings, load, middle, pairs, put, rank, run, settle, swaps, sweep
 
 TEXT = ("box A ; box B ; box C ; box D ; box E ; edge A -> E ; edge A -> D ; edge B -> D ; edge B -> C ; "
         "edge C -> E ;")
@@ -14,15 +14,25 @@ class Worked(unittest.TestCase):
             run(load(TEXT), rank(1), crossings(), pairs(0)),
             [[1, 3, 1, 3], [3, 0, 2, 0, 3, 1, 0], [3, 3, 0], [3, 0, 2, 0, 3, 1, 3]])
 
-    def test_put(self):
-        # Behind the sweep of the example rank 1 is its mirror; put brings it there and back.
-        self.assertEqual(
-            run(load(TEXT), put(1, [2, 1, 0]), rank(1), crossings(), pairs(0), put(1, [2, 1, 0]), rank(1)),
-            [[1, 3, 1, 3], [0], [3, 1, 0, 0, 3, 0, 2], [0, 0, 0], [0], [3], [3, 0, 2, 0, 3, 1, 0]])
+    def test_middles(self):
+        self.assertEqual(run(load(TEXT), middle(1, 0, 0), middle(1, 1, 0), middle(1, 2, 1))[1:], [[1, 1], [2, 1], [1, 0]])
 
-    def test_swapped_boxes(self):
-        # The example's pass swaps A and B, and no crossing is left.
-        self.assertEqual(run(load(TEXT), put(0, [1, 0]), rank(0))[1:], [[0], [2, 0, 1, 0, 0]])
+    def test_sweep(self):
+        self.assertEqual(run(load(TEXT), sweep(0), rank(1))[1:], [[0], [3, 1, 0, 0, 3, 0, 2]])
+
+    def test_swaps(self):
+        self.assertEqual(run(load(TEXT), sweep(0), anew(), swaps(), rank(0))[2:], [[3], [0, 1], [2, 0, 1, 0, 0]])
+
+    def test_settle_and_best(self):
+        self.assertEqual(run(load(TEXT), swaps(), anew(), settle(), best(1), put(1, [2, 1, 0]), rank(1))[2:],
+                         [[3], [0, 3], [0], [3], [3, 0, 2, 0, 3, 1, 0]])
+
+    def test_one_behind_another(self):
+        self.assertEqual(
+            run(load(TEXT), rank(1), crossings(), pairs(0), middle(1, 0, 0), middle(1, 1, 0), middle(1, 2, 1),
+                sweep(0), rank(1), anew(), swaps(), rank(0), anew(), settle(), best(1), put(1, [2, 1, 0])),
+            [[1, 3, 1, 3], [3, 0, 2, 0, 3, 1, 0], [3, 3, 0], [3, 0, 2, 0, 3, 1, 3], [1, 1], [2, 1], [1, 0],
+             [0], [3, 1, 0, 0, 3, 0, 2], [3], [0, 1], [2, 0, 1, 0, 0], [3], [0, 3], [0], [3]])
 
 
 if __name__ == "__main__":
